@@ -3,7 +3,7 @@
 import random
 import unittest
 
-from flight_checks import FlightCase
+from flight_checks import FlightCase, empty, fill
 from lockflight import errors
 from lockflight.flight import Flight
 
@@ -69,18 +69,6 @@ def outcome(flight, deed, value):
         return getattr(flight, deed)(value)
     except errors.LockError as error:
         return type(error)
-
-
-def fill(flight, place):
-    if 1 <= place <= len(flight.levels()) and not flight.levels()[place - 1]:
-        fill(flight, place + 1)
-        flight.let(place)
-
-
-def empty(flight, place):
-    if 1 <= place <= len(flight.levels()) and flight.levels()[place - 1]:
-        empty(flight, place - 1)
-        flight.let(place - 1)
 
 
 class RunsTest(FlightCase):

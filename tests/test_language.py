@@ -27,6 +27,16 @@ BARRED_WORDS = """type typing typing_extensions enum Enum IntEnum StrEnum Flag I
 BARRED_PARTS = ["dataclass", "overload", "contextmanager"]
 BARRED_NAMES = "register mro elements open input version_info with_traceback add_note format format_map".split()
 
+KEYWORDS = {
+    "sorted": ("key", "reverse"),
+    "min": ("key", "default"),
+    "max": ("key", "default"),
+    "sum": ("start",),
+    "enumerate": ("start",),
+    "zip": ("strict",),
+}
+WALKERS = "list tuple dict sorted sum any all enumerate zip min max".split()
+
 
 def files():
     return sorted(path for path in ROOT.rglob("*") if path.is_file() and "__pycache__" not in path.parts)
@@ -38,6 +48,10 @@ def trees():
 
 def nodes(kinds):
     return [(path, node) for path, tree in trees() for node in ast.walk(tree) if isinstance(node, kinds)]
+
+
+def spot(path, node):
+    return path, node.lineno, node.col_offset, node.end_lineno, node.end_col_offset
 
 
 def bound_names(node):
@@ -148,8 +162,55 @@ class FormsTest(unittest.TestCase):
                 plain = [side.value for side in [node.left] + node.comparators if isinstance(side, ast.Constant)]
                 self.assertTrue(any(value is None or isinstance(value, bool) for value in plain), (path, node.lineno))
 
+    def test_no_two_files_draw_from_one_another(self):
+        drawn = {path.stem: set() for path in files()}
+        for path, node in nodes(ast.ImportFrom):
+            drawn[path.stem].add(node.module.split(".")[1])
+        while drawn:
+            free = [name for name, others in drawn.items() if not others & set(drawn)]
+            self.assertNotEqual(free, [], drawn)
+            for name in free:
+                del drawn[name]
+
+    def test_keywords_of_pythons_own_functions(self):
+        for path, node in nodes(ast.Call):
+            name = node.func.id if isinstance(node.func, ast.Name) else ""
+            for keyword in node.keywords:
+                self.assertIn(keyword.arg, KEYWORDS.get(name, ()), (path, node.lineno))
+
+    def test_walks_are_not_kept(self):
+        walked = set()
+        for path, node in nodes((ast.For, ast.comprehension)):
+            walked.add(spot(path, node.iter))
+        for path, node in nodes(ast.Call):
+            if isinstance(node.func, ast.Name) and node.func.id in WALKERS:
+                walked |= {spot(path, part) for part in node.args[:1]}
+        for path, node in nodes(ast.Call):
+            name = node.func.id if isinstance(node.func, ast.Name) else getattr(node.func, "attr", "")
+            if name in ("zip", "enumerate", "reversed", "range", "items", "keys", "values"):
+                self.assertIn(spot(path, node), walked, (path, node.lineno))
+
 
 class NamesTest(unittest.TestCase):
+    def test_no_local_is_called_like_a_class_or_an_import_of_its_file(self):
+        for path, tree in trees():
+            taken = {part.name for node in tree.body if isinstance(node, ast.ImportFrom) for part in node.names}
+            taken |= {node.name for node in tree.body if isinstance(node, ast.ClassDef)}
+            for node in ast.walk(tree):
+                if isinstance(node, (ast.Name, ast.arg)):
+                    self.assertEqual([name for name in bound_names(node) if name in taken], [], (path, node.lineno))
+
+    def test_lists_and_dicts_of_the_top_are_only_read(self):
+        for path, tree in trees():
+            top = {part.targets[0].id for part in tree.body if isinstance(part, ast.Assign)}
+            for node in ast.walk(tree):
+                if isinstance(node, ast.Subscript) and not isinstance(node.ctx, ast.Load):
+                    self.assertNotIn(getattr(node.value, "id", None), top, (path, node.lineno))
+                if isinstance(node, ast.Attribute) and getattr(node.value, "id", None) in top:
+                    self.assertEqual(node.attr, "get", (path, node.lineno))
+                if isinstance(node, ast.Return):
+                    self.assertNotIn(getattr(node.value, "id", None), top, (path, node.lineno))
+
     def test_bound_names(self):
         for path, node in nodes(ast.AST):
             for name in bound_names(node):
