@@ -122,14 +122,17 @@ class RestTest(FlightCase):
             stand = (4, 8, 8, last, run, patience)
             self.assertEqual(rest(*stand), least_of_all(*stand), stand)
 
-    def test_larger_numbers_from_the_first_boat_on(self):
-        for many in range(1, 9):
-            for ups in (1, 5, 8):
-                for downs in (2, 6, 8):
-                    for last in SIDES:
-                        for run, patience in ((1, 1), (1, 3), (2, 2), (4, 6), (7, 5), (1, 20), (15, 20), (20, 20)):
-                            stand = (many, ups, downs, last, run, patience)
-                            self.assertEqual(rest(*stand), least_forward(*stand), stand)
+    def test_all_numbers_of_boats_from_the_first_one_on(self):
+        seen = set()
+        for ups in range(9):
+            for downs in range(9):
+                many = 1 + (3 * ups + downs) % 8
+                seen.add(many)
+                for last in SIDES:
+                    for run, patience in ((1, 1), (1, 3), (2, 2), (4, 6), (7, 5), (1, 20), (15, 20), (20, 20)):
+                        stand = (many, ups, downs, last, run, patience)
+                        self.assertEqual(rest(*stand), least_forward(*stand), stand)
+        self.assertEqual(seen, set(range(1, 9)))
 
     def test_larger_numbers_stand_by_stand(self):
         for many in (1, 4, 8):
